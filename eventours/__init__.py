@@ -1,0 +1,1 @@
+"""Eventours: nets in which all halls have evenly many ways."""
