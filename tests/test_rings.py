@@ -10,7 +10,7 @@ from support import (
     plain_rings, raised, ways_round,
 )
 
-# The nets whose numbers of rings are next to 20000 on either side.
+# They have 19760 and 20412 rings, the nearest to 20000 that a search of nets found.
 JUST_FEW_ENOUGH = net_without(9, ((0, 1), (0, 2), (0, 5), (0, 6)))
 JUST_TOO_MANY = net_without(9, ((0, 5), (0, 7), (0, 8), (5, 7)))
 TOO_MANY = ("TooMany", {"most": 20000})
