@@ -39,6 +39,28 @@ WRONG_WAYS = (
     (3, ((0, 2), (0, 1))), (3, ((1, 2), (0, 1))), (3, ((0, 1), (1, 2), (0, 2))),
     (3, ((0, 1), (0, 1))), (3, ((0, 1), (0, 2), (0, 2))),
 )
+# (1, 3), (0, 3) are pairs of halls, but no ways of it.
+TAILED = (5, ((0, 1), (0, 2), (1, 2), (2, 3), (3, 4)))
+WRONG_WAYS_OF_TAILED = (
+    (1, 0), (0, 0), (0, 3), (1, 3), (3, 9), (-1, 1), (0, 10 ** 30),
+    (False, True), (False, 1), (0, True), (True, 2),
+    0, 1, True, False, None, "", "01", (), (0,), (0, 1, 2), (0, "1"), (0, None),
+    ((0, 1),), (0, (1,)), (0, [1]), [0, 1], [], {}, {0: 1}, {(0, 1): True},
+)
+WRONG_LOTS_OF_TAILED = (
+    # No tuple, or a tuple of other things than pairs.
+    0, 1, True, False, None, "", "01", [], {}, [(0, 1)], [(0, 1), (0, 2)], {(0, 1): True},
+    (0,), (0, 1), (None,), (True,), ("",), ("01",), ([0, 1],), ((),), ((0,),), ((0, 1, 2),),
+    (((0, 1),),), ((0, 1), None), ((0, 1), ()), (((0, 1), (0, 2)),), ({0: 1},),
+    # Pairs that are no ways.
+    ((0, 3),), ((1, 3),), ((0, 1), (0, 4)), ((0, 1), (0, 2), (0, 3)), ((3, 9),), ((-1, 1),),
+    ((1, 0),), ((0, 0),), ((0, 1), (2, 1)), ((0, 10 ** 30),),
+    ((False, True),), ((False, 1),), ((0, True),), ((0, 1), (0, 2), (True, 2)),
+    ((0, "1"),), ((0, None),), ((0, [1]),), ((0, (1,)),), (({}, 1),),
+    # Not ascending, or a way twice.
+    ((0, 2), (0, 1)), ((0, 1), (1, 2), (0, 2)), ((3, 4), (2, 3)),
+    ((0, 1), (0, 1)), ((0, 1), (0, 2), (0, 2)), ((0, 1), (0, 2), (0, 1)),
+)
 WRONG_NETS = (
     [("whole", value) for value in WRONG_WHOLES]
     + [("halls", value) for value in WRONG_HALLS]
@@ -71,6 +93,17 @@ def all_nets(halls):
     ]
 
 
+def even_nets(halls):
+    """All nets of so many halls each of which has evenly many ways."""
+    return [net for net in all_nets(halls) if has_even_halls(net)]
+
+
+def has_even_halls(net):
+    """Tell whether each hall is an end of evenly many ways."""
+    ends = [hall for way in net[1] for hall in way]
+    return all(ends.count(hall) % 2 == 0 for hall in range(net[0]))
+
+
 def ways_round(ring):
     """The ways on a ring, as a list."""
     return [
@@ -99,6 +132,59 @@ def plain_pieces(net):
             lots = [lot for lot in lots if lot is not one and lot is not other]
             lots.append(one | other)
     return tuple(sorted(tuple(sorted(lot)) for lot in lots))
+
+
+def plain_partings(net):
+    """The partings by choosing, for the first way left, each ring on which it lies."""
+    rings = [(ring, set(ways_round(ring))) for ring in plain_rings(net)]
+
+    def partings_of(left):
+        if not left:
+            return [()]
+        return [
+            (ring, *others)
+            for ring, lot in rings
+            if min(left) in lot and lot <= left
+            for others in partings_of(left - lot)
+        ]
+
+    return tuple(sorted(tuple(sorted(found)) for found in partings_of(set(net[1]))))
+
+
+def plain_trails(net, way):
+    """The trails by trying all halls as the next one, without looking ahead."""
+    begun = [(way[0],)]
+    found = []
+    while begun:
+        further = [path + (hall,) for path in begun for hall in range(net[0])]
+        trails = [path for path in further if is_trail(net, way, path)]
+        found += [path for path in trails if path[-1] == way[1]]
+        begun = [path for path in trails if path[-1] != way[1]]
+    return tuple(sorted(found))
+
+
+def is_trail(net, way, path):
+    """Tell whether a path goes ways of the net other than one way, each once at most."""
+    gone = [tuple(sorted(step)) for step in zip(path, path[1:])]
+    return way not in gone and len(set(gone)) == len(gone) and set(gone) <= set(net[1])
+
+
+def plain_lots(net):
+    """All lots of ways of a net, ascending."""
+    ways = net[1]
+    return tuple(sorted(
+        lot for many in range(len(ways) + 1) for lot in combinations(ways, many)
+    ))
+
+
+def plain_forest(net):
+    """The forest by the pieces of the net with the ways ahead of each way."""
+    halls, ways = net
+    ahead = [plain_pieces((halls, ways[:at])) for at in range(len(ways))]
+    return tuple(
+        way for way, pieces in zip(ways, ahead)
+        if not any(set(way) <= set(piece) for piece in pieces)
+    )
 
 
 def raised(call, *arguments):

@@ -6,23 +6,14 @@ from eventours.nets import is_even
 from eventours.rings import all_odd, counts, rings, rings_through
 
 from support import (
-    BOW, FOUR, SCATTERED, TRIANGLE, WRONG_NETS, all_nets, full_net, net_without,
-    plain_rings, raised, ways_round,
+    BOW, FOUR, SCATTERED, TAILED, TRIANGLE, WRONG_NETS, WRONG_WAYS_OF_TAILED, all_nets,
+    full_net, net_without, plain_rings, raised, ways_round,
 )
 
 # They have 19760 and 20412 rings, the nearest to 20000 that a search of nets found.
 JUST_FEW_ENOUGH = net_without(9, ((0, 1), (0, 2), (0, 5), (0, 6)))
 JUST_TOO_MANY = net_without(9, ((0, 5), (0, 7), (0, 8), (5, 7)))
 TOO_MANY = ("TooMany", {"most": 20000})
-
-WRONG_WAYS = (
-    (1, 0), (0, 0), (0, 3), (1, 3), (3, 9), (-1, 1), (0, 10 ** 30),
-    (False, True), (False, 1), (0, True), (True, 2),
-    0, 1, True, False, None, "", "01", (), (0,), (0, 1, 2), (0, "1"), (0, None),
-    ((0, 1),), (0, (1,)), (0, [1]), [0, 1], [], {}, {0: 1}, {(0, 1): True},
-)
-# (1, 3), (0, 3) are pairs of halls, but no ways of it.
-TAILED = (5, ((0, 1), (0, 2), (1, 2), (2, 3), (3, 4)))
 
 
 class RingsTest(unittest.TestCase):
@@ -107,7 +98,7 @@ class RingsThroughTest(unittest.TestCase):
                 self.assertEqual(rings_through(net, way), told, net)
 
     def test_bad_ways(self):
-        for way in WRONG_WAYS:
+        for way in WRONG_WAYS_OF_TAILED:
             with self.subTest(way=way):
                 self.assertEqual(raised(rings_through, TAILED, way), ("BadWay", {}))
 
@@ -173,7 +164,7 @@ class TooManyTest(unittest.TestCase):
             self.assertEqual(raised(rings_through, net, (0, 1)), TOO_MANY)
 
     def test_behind_a_bad_way(self):
-        for way in WRONG_WAYS[:2] + (None, (0, 5), (0, 9), [0, 1], (False, True)):
+        for way in WRONG_WAYS_OF_TAILED[:2] + (None, (0, 5), (0, 9), [0, 1], (False, True)):
             with self.subTest(way=way):
                 self.assertEqual(raised(rings_through, JUST_TOO_MANY, way), ("BadWay", {}))
 
