@@ -1,6 +1,6 @@
 """Nets of halls and ways: how many ways the halls have, and which halls ways join."""
 
-from eventours.errors import BadNet, BadWay
+from eventours.errors import BadHall, BadNet, BadWay
 
 MOST_HALLS = 9
 
@@ -38,6 +38,12 @@ def check_net(value):
     part = wrong_part(value)
     if part is not None:
         raise BadNet(part)
+
+
+def check_hall(net, value):
+    """Raise BadHall if a value is no hall of the net."""
+    if not is_hall(net[0], value):
+        raise BadHall()
 
 
 def check_way(net, value):
@@ -84,12 +90,22 @@ def is_pair(halls, value):
     if not isinstance(value, tuple) or len(value) != 2:
         return False
     x, y = value
-    return is_number(x) and is_number(y) and 0 <= x < y < halls
+    return is_hall(halls, x) and is_hall(halls, y) and x < y
+
+
+def is_hall(halls, value):
+    """Tell whether a value is one of so many halls."""
+    return is_number(value) and 0 <= value < halls
 
 
 def is_number(value):
     """Tell whether a value is an integer; True and False are none."""
     return isinstance(value, int) and not isinstance(value, bool)
+
+
+def way_between(x, y):
+    """The pair of two halls, the lesser one first."""
+    return (min(x, y), max(x, y))
 
 
 def halls_led_to(near, start):

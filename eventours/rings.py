@@ -1,7 +1,7 @@
 """The rings of a net, and how many of them each way lies on."""
 
 from eventours.errors import TooMany
-from eventours.nets import check_net, check_way, neighbours
+from eventours.nets import check_net, check_way, neighbours, way_between
 
 MOST_RINGS = 20000
 
@@ -58,4 +58,4 @@ def is_ring(near, path):
 
 def ways_on(ring):
     """The list of the ways between neighbours in a ring."""
-    return [(min(x, y), max(x, y)) for x, y in zip(ring, ring[1:] + ring[:1])]
+    return [way_between(x, y) for x, y in zip(ring, ring[1:] + ring[:1])]
