@@ -73,6 +73,12 @@ class TourTest(unittest.TestCase):
         self.assertIs(shows_tour(net, None), True)
         self.assertIs(shows_tour(net, (0,)), False)
 
+    def check_net(self, net):
+        if may_have_tour(net):
+            self.check_tour(net)
+        else:
+            self.check_no_tour(net)
+
     def test_examples(self):
         self.assertIs(has_tour(BOW), True)
         self.assertIs(shows_tour(BOW, tour(BOW)), True)
@@ -112,10 +118,7 @@ class TourTest(unittest.TestCase):
     def test_all_small_nets(self):
         for halls in range(1, 6):
             for net in all_nets(halls):
-                if may_have_tour(net):
-                    self.check_tour(net)
-                else:
-                    self.check_no_tour(net)
+                self.check_net(net)
 
     def test_there_is_one_exactly_then(self):
         for halls in range(1, 5):
@@ -125,10 +128,7 @@ class TourTest(unittest.TestCase):
 
     def test_two_loops(self):
         for net in TWO_LOOPS:
-            if may_have_tour(net):
-                self.check_tour(net)
-            else:
-                self.check_no_tour(net)
+            self.check_net(net)
 
 
 class ShowsTourTest(unittest.TestCase):
